@@ -1,0 +1,1 @@
+"""Keptends: ends of a pipe that children keep."""
