@@ -85,6 +85,13 @@ def is_step(thing):
     return word in WORDS and word != "stay" and number == -1
 
 
+def is_words_of(thing, words):
+    """Return whether it is a tuple of different ones of these words, in any order."""
+    if not isinstance(thing, tuple) or not all([word in words for word in thing]):
+        return False
+    return all([thing.index(word) == k for k, word in enumerate(thing)])
+
+
 def _is_tuple_of(thing, many):
     return isinstance(thing, tuple) and len(thing) == many
 

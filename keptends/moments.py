@@ -37,7 +37,7 @@ def tree_with(roles, tree, step):
     if birth is None:
         return changed
     word, name = birth
-    child = (name, process, 0, _handed_on(word, row[READ_END]), _handed_on(word, row[WRITE_END]), True)
+    child = (name, process, 0, handed_on(word, row[READ_END]), handed_on(word, row[WRITE_END]), True)
     return changed + (child,)
 
 
@@ -123,6 +123,20 @@ def keeps_end(roles, tree):
     return is_held(staying, READ_END) or is_held(staying, WRITE_END)
 
 
+def handed_on(word, held):
+    """Return how a child holds an end that its parent holds so, born by this word."""
+    if word == "copy":
+        return held
+    return "open" if held == "open" else "none"
+
+
+def end_behind(held, word, is_meant):
+    """Return how an end is held behind a mark or a close that means it or the other one."""
+    if not is_meant or held == "none":
+        return held
+    return "marked" if word == "mark" else "none"
+
+
 def _is_at(roles, row, word):
     return row[LIVES] and instruction_at(roles, row)[0] == word
 
@@ -135,12 +149,6 @@ def _joins(roles, tree, process, stuck):
     if not _is_at(roles, tree[process], "wait") or tree[process][WRITE_END] == "none":
         return False
     return any([stuck[k] for k in line_of(tree, process)])
-
-
-def _handed_on(word, held):
-    if word == "copy":
-        return held
-    return "open" if held == "open" else "none"
 
 
 def _birth_by(roles, row, step):
@@ -161,15 +169,9 @@ def _row_behind(roles, row, step):
     instruction = instruction_at(roles, row)
     target = number if word == "go" else instruction[-1]
     if word in ("mark", "close"):
-        r = _end_behind(r, word, instruction[1] == "r")
-        w = _end_behind(w, word, instruction[1] == "w")
+        r = end_behind(r, word, instruction[1] == "r")
+        w = end_behind(w, word, instruction[1] == "w")
     return (name, parent, target, r, w, True)
-
-
-def _end_behind(held, word, is_meant):
-    if not is_meant or held == "none":
-        return held
-    return "marked" if word == "mark" else "none"
 
 
 def _steps_of(roles, tree, process):

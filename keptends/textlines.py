@@ -1,7 +1,7 @@
 """Lines of texts as words: which words can stand where."""
 
 from keptends.errors import InvalidText
-from keptends.kinds import BIRTHS, ENDS, is_name
+from keptends.kinds import BIRTHS, ENDS, WORDS, is_name
 
 DIGITS = "0123456789"
 MOST_DIGITS = 60
@@ -52,5 +52,7 @@ def _can_stand(part, word):
         return word in ENDS
     if part == "birth":
         return word in BIRTHS
+    if part == "step":
+        return word == "aside" or word in WORDS and word != "stay"
     # What remains is how process 0 holds an end at first.
     return word in ("open", "marked")

@@ -1,5 +1,8 @@
-"""The examples of the document, as they stand there."""
+"""The examples of the document, as they stand there, and those of README.md."""
 
+import pathlib
+import subprocess
+import sys
 import unittest
 
 from tests.samples import KID, MAIN, PROGRAM, RUN, SERVER
@@ -60,6 +63,62 @@ raises InvalidStep(step=(0, 'read', -1), word='read')
 [('stays',), ('kept', 'stays'), 3, 2]
 >>> [ways_at_end(PROGRAM, RUN[:2]), first_shown(PROGRAM, RUN, 'deaf')]
 [(), None]
+>>> from keptends.runreadings import read_run, read_step
+>>> from keptends.runtexts import run_text, step_text
+>>> [step_text((1, 'aside', 0)), run_text(RUN[:2]), read_run('0 go 2\\n0 end'), read_run('-')]
+['1 aside 0', '0 copy\\n1 start', ((0, 'go', 2), (0, 'end', -1)), ()]
+>>> read_step('0 go')
+raises InvalidText(line=0, field=2)
+>>> from keptends.pictures import run_picture
+>>> run_picture(PROGRAM, RUN)
+[' 0 main      -  2 o- read waits', ' 1 kid       0  3 -- ended', ' 2 server    1  0 oo stay']
+>>> from keptends.runclasses import Quiet, Run
+>>> run = Run(PROGRAM, RUN)
+>>> [len(run), run[1], 2 in run, run % 0, str(run - 4), run - 1 <= run, run.first('kept')]
+[6, ('kid', 0, 3, 'none', 'none', False), True, ((0, 'copy', -1), (0, 'close', -1)), '0 copy\\n1 start', True, 2]
+>>> Quiet(PROGRAM, RUN[:1]) + (1, 'start', -1)
+raises NotUsable(word='harm', at=1)
+>>> from keptends.fates import all_fates, fates_of, is_fate
+>>> NONE, STAYS = ('moment', False, False, False, False, False), ('moment', False, True, False, True, False)
+>>> [fates_of(PROGRAM, 'server', ('open', 'open')) == (STAYS,), fates_of(PROGRAM, 'kid', ('open', 'open')) == (NONE, STAYS)]
+[True, True]
+>>> [[entry[0] for entry in all_fates(PROGRAM)], is_fate(('moment', False, True, True, False, False))]
+[['kid', 'main', 'server'], False]
+>>> from keptends.fatechecker import lets_fates
+>>> from keptends.programchanges import put_in
+>>> SAFE = put_in(PROGRAM, 'kid', 0, ('mark', 'w'))
+>>> [lets_fates(SAFE, all_fates(SAFE)), lets_fates(PROGRAM, all_fates(PROGRAM), ways=('own', 'joins'))]
+[3, 3]
+>>> lets_fates(PROGRAM, all_fates(PROGRAM))
+raises InvalidPaper(word='way', at=1)
+>>> from keptends.hangs import can_hang, fewest_processes, hang_run, ways_of
+>>> [ways_of(PROGRAM), can_hang(SAFE), fewest_processes(PROGRAM, 'stays'), hang_run(PROGRAM, 'own')]
+[('stays',), False, 3, None]
+>>> from keptends.waychecker import lets_few, lets_way
+>>> from keptends.waypapers import few_paper, way_paper
+>>> [lets_way(PROGRAM, 'stays', ('run', RUN)), lets_way(PROGRAM, 'own', way_paper(PROGRAM, 'own'))]
+[True, False]
+>>> [lets_few(PROGRAM, 'stays', few_paper(PROGRAM, 'stays')), few_paper(SAFE, 'stays')]
+[3, None]
+>>> lets_way(PROGRAM, 'own', ('run', RUN))
+raises InvalidPaper(word='way', at=-1)
+>>> from keptends.fateclasses import Fates, Listed
+>>> one, alone = Fates(PROGRAM), (('open', 'open'), (SERVER,))
+>>> [one.ways_now, one['server', ('open', 'open')] == (STAYS,), one('kid'), ('kid', ('open', 'none')) in one, len(one)]
+[('stays',), True, (('open', 'open'),), False, 3]
+>>> wide = Listed(alone, (('server', ('open', 'open'), (('ended',), STAYS)),))
+>>> [str(wide), wide.spare_now, Fates(alone) <= wide, (wide & Fates(alone)) == Fates(alone)]
+['server open open ended -+-+-', (('server', ('open', 'open'), (('ended',),)),), True, True]
+>>> from keptends.lettings import can_be_unread, can_end, can_end_late, can_let_go
+>>> BOTH = ('open', 'open')
+>>> LATE = (BOTH, (('main', (('copy', 'kid', 1), ('close', 'w', 2), ('wait', 3), ('write', 4), ('end',)), ()), ('kid', (('close', 'w', 1), ('read', 2), ('end',)), ())))
+>>> [can_end(LATE, 'kid', BOTH), can_let_go(LATE, 'kid', BOTH), can_end_late(LATE, 'main', BOTH), can_be_unread(LATE, 'kid', BOTH)]
+[False, True, True, False]
+>>> [can_let_go(PROGRAM, 'main', BOTH), can_let_go(PROGRAM, 'main', ('open', 'marked')), can_be_unread(PROGRAM, 'kid', ('marked', 'open'))]
+[False, True, True]
+>>> from keptends.harmchecker import lets_harm
+>>> lets_harm(PROGRAM, 'deaf', RUN)
+raises InvalidPaper(word='harm', at=-1)
 """
 
 
@@ -74,6 +133,13 @@ class Examples(unittest.TestCase):
                     exec(row[4:], names)
                 else:
                     self.assertEqual(self.shown(row[4:], names), wanted)
+
+    def test_readme(self):
+        # In a process of its own, since it gives a meaning to the name _ everywhere.
+        folder = pathlib.Path(__file__).resolve().parent.parent
+        found = subprocess.run([sys.executable, "-m", "doctest", "README.md"], cwd=folder, capture_output=True, text=True)
+        self.assertEqual((found.returncode, found.stdout, found.stderr), (0, "", ""))
+        self.assertGreater((folder / "README.md").read_text().count(">>>"), 20)
 
     @staticmethod
     def shown(source, names):

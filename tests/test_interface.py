@@ -6,7 +6,9 @@ import inspect
 import pathlib
 import unittest
 
+from keptends.fateclasses import Fates, Listed
 from keptends.programclasses import Program, Reborn
+from keptends.runclasses import Quiet, Run
 
 FOLDER = pathlib.Path(__file__).resolve().parent.parent / "keptends"
 FUNCTIONS = {
@@ -26,7 +28,20 @@ FUNCTIONS = {
     "runchecker": ("is_run(program, thing)", "lets_run(program, thing)"),
     "runs": ("after_step(program, run, step)", "runs_of_length(program, length)"),
     "hangings": ("ways_at_end(program, run)", "harms_shown(program, run)", "first_shown(program, run, harm)"),
+    "runtexts": ("step_text(step)", "run_text(run)"),
+    "runreadings": ("read_step(text)", "read_run(text)"),
+    "pictures": ("run_picture(program, run)",),
+    "fates": ("is_fate(thing)", "fates_of(program, name, ends)", "all_fates(program)"),
+    "fatechecker": ("lets_fates(program, thing, *, ways=('own', 'stays', 'joins'))",),
+    "hangs": ("ways_of(program)", "can_hang(program, *, ways=('own', 'stays', 'joins'))", "fewest_processes(program, way)",
+              "hang_run(program, way)"),
+    "waypapers": ("way_paper(program, way)", "few_paper(program, way)"),
+    "waychecker": ("lets_way(program, way, thing)", "lets_few(program, way, thing)"),
+    "lettings": ("can_end(program, name, ends)", "can_let_go(program, name, ends)", "can_be_unread(program, name, ends)",
+                 "can_end_late(program, name, ends)"),
+    "harmchecker": ("lets_harm(program, harm, thing)",),
 }
+CLASSES = {"programclasses": ["Program", "Reborn"], "runclasses": ["Run", "Quiet"], "fateclasses": ["Fates", "Listed"]}
 METHODS = {
     Program: ("__init__(self, begin, roles)", "__getitem__(self, at)", "__call__(self, name)", "__contains__(self, x)",
               "__len__(self)", "__iter__(self)", "__str__(self)", "__eq__(self, other)", "__le__(self, other)",
@@ -34,8 +49,18 @@ METHODS = {
               "placed(self, name, place, instruction)", "beside(self, name, asides)", "called(self, old, new)",
               "shut_at(self, name, place, instruction)"),
     Reborn: ("__init__(self, begin, roles, word)",),
+    Run: ("__init__(self, program, steps=())", "holders(self, end)", "first(self, harm)", "__add__(self, other)",
+          "__sub__(self, other)", "__mod__(self, other)", "__getitem__(self, at)", "__contains__(self, x)", "__len__(self)",
+          "__iter__(self)", "__str__(self)", "__eq__(self, other)", "__le__(self, other)"),
+    Quiet: ("__init__(self, program, steps=())",),
+    Fates: ("__init__(self, program)", "__getitem__(self, at)", "__call__(self, name)", "__contains__(self, x)", "__len__(self)",
+            "__iter__(self)", "__str__(self)", "__eq__(self, other)", "__le__(self, other)", "__and__(self, other)"),
+    Listed: ("__init__(self, program, thing)",),
 }
-PROPERTIES = {Program: ("begin_now", "roles_now", "form_now", "names_now"), Reborn: ("source_now", "birth_now")}
+PROPERTIES = {
+    Program: ("begin_now", "roles_now", "form_now", "names_now"), Reborn: ("source_now", "birth_now"),
+    Run: ("program_now", "run_now", "tree_now", "next_now", "rest_now", "waiting_now", "ways_now", "harms_now"), Quiet: (),
+    Fates: ("program_now", "table_now", "first_now", "ways_now"), Listed: ("table_now", "spare_now")}
 
 
 class Interface(unittest.TestCase):
@@ -51,8 +76,9 @@ class Interface(unittest.TestCase):
             body = ast.parse((FOLDER / (name + ".py")).read_text()).body
             defined = {node.name for node in body if isinstance(node, ast.FunctionDef)}
             self.assertLessEqual({signature.split("(")[0] for signature in signatures}, defined)
-        body = ast.parse((FOLDER / "programclasses.py").read_text()).body
-        self.assertEqual([node.name for node in body if isinstance(node, ast.ClassDef)], ["Program", "Reborn"])
+        for name, classes in CLASSES.items():
+            body = ast.parse((FOLDER / (name + ".py")).read_text()).body
+            self.assertEqual([node.name for node in body if isinstance(node, ast.ClassDef)], classes)
 
     def test_methods_and_properties_are_defined_in_the_class_itself(self):
         for known, signatures in METHODS.items():
@@ -63,6 +89,8 @@ class Interface(unittest.TestCase):
                 self.assertIsInstance(vars(known)[name], property)
         self.assertEqual(str(inspect.signature(Program.of)), "(*roles, begin=('open', 'open'))")
         self.assertEqual(str(inspect.signature(Program.read)), "(text)")
+        self.assertEqual(str(inspect.signature(Run.read)), "(program, text)")
+        self.assertIn("read", vars(Run))
 
 
 if __name__ == "__main__":

@@ -190,5 +190,37 @@ class Language(unittest.TestCase):
                             self.assertNotIn(inner.value.id, passed, (name, node.name))
 
 
+    def test_only_what_a_function_created_itself_is_changed(self):
+        # So is whatever an operator or a property calls.
+        for name, _, nodes in trees():
+            for node in nodes:
+                if isinstance(node, ast.FunctionDef):
+                    inner = list(ast.walk(node))
+                    changed = [part.func.value.id for part in inner if isinstance(part, ast.Call) and isinstance(
+                        part.func, ast.Attribute) and part.func.attr in ("append", "extend", "pop", "insert", "update", "clear")]
+                    changed += [part.value.id for part in inner if isinstance(part, ast.Subscript) and isinstance(
+                        part.ctx, (ast.Store, ast.Del))]
+                    for part in inner:
+                        if isinstance(part, ast.Assign) and isinstance(part.targets[0], ast.Name) and part.targets[0].id in changed:
+                            self.assertIsInstance(part.value, (ast.List, ast.Dict, ast.ListComp), (name, part.lineno))
+
+    def test_reversed_takes_what_is_plainly_a_list(self):
+        for name, _, nodes in trees():
+            for node in nodes:
+                if isinstance(node, ast.Call) and isinstance(node.func, ast.Name) and node.func.id == "reversed":
+                    self.assertIn(getattr(getattr(node.args[0], "func", None), "id", ""), ("list", "tuple"), name)
+
+    def test_loops_change_nothing_that_they_go_over(self):
+        for name, _, nodes in trees():
+            for node in nodes:
+                if isinstance(node, ast.For):
+                    over = {part.id for part in ast.walk(node.iter) if isinstance(part, ast.Name)}
+                    for part in [part for row in node.body for part in ast.walk(row)]:
+                        if isinstance(part, ast.Attribute) and part.attr in ("append", "extend", "pop", "insert", "update"):
+                            self.assertNotIn(part.value.id, over, (name, part.lineno))
+                        if isinstance(part, ast.Subscript) and isinstance(part.ctx, (ast.Store, ast.Del)):
+                            self.assertNotIn(part.value.id, over, (name, part.lineno))
+
+
 if __name__ == "__main__":
     unittest.main()

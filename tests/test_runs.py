@@ -85,6 +85,21 @@ class RunsOfLength(Case):
                 self.assert_same(found, sorted(set(found)))
                 self.assert_same(list(runs_of_length(length=length, program=program)), found)
 
+    def test_with_one_word_of_the_begin_turned(self):
+        for begin in (("marked", "open"), ("open", "marked"), ("marked", "marked")):
+            for program in PROGRAMS:
+                for length in range(4):
+                    found = list(runs_of_length((begin, program[1]), length))
+                    if len(found) < 200:
+                        self.assert_same(found, all_runs((begin, program[1]), length))
+
+    def test_no_length_is_asked_for_where_nothing_is(self):
+        # A generator of which nothing is asked refuses nothing.
+        for odd in (None, -1, True, "2"):
+            runs_of_length(PROGRAM, odd)
+            runs_of_length(None, odd)
+            self.assertEqual(list(zip((), runs_of_length(PROGRAM, odd))), [])
+
     def test_runs_of_four_steps(self):
         for program in (PROGRAM, CHOICE, BREED):
             found = list(runs_of_length(program, 4))
