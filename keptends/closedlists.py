@@ -32,7 +32,7 @@ def codes_by_key(entries):
 
 def check_closed(roles, table, key, k):
     """Raise InvalidPaper unless what follows on paths of the key, of the entry k, is in the table."""
-    graph = graph_from(roles, key)
+    graph = graph_from(roles[key[0]], start_of(key))
     masks = masks_along(graph, start_of(key), table)
     if any([child not in table for child in born_along(graph, masks)]):
         raise InvalidPaper("birth", k)

@@ -15,6 +15,9 @@ OWN = 4
 STUCK = 8
 WAITS = 16
 MOMENT = 32
+# Of the other aspects that follows tells of, where the bit of STUCK has other meanings.
+LOUD = 40
+BOUND = 40
 # Of the bools of a moment, in their order.
 BITS = (16, 8, 4, 2, 1)
 BIT_OF_WAY = {"own": 4, "stays": 2, "joins": 1}

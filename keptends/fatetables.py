@@ -6,7 +6,7 @@ it was asked for, and just those of all that can be born from there on.
 """
 
 from keptends.fatecodes import codes_in
-from keptends.follows import late_places, mask_behind
+from keptends.follows import late_costs, mask_behind
 from keptends.lookups import roles_by_name
 from keptends.paths import born_along, graph_from, masks_along, start_of
 
@@ -20,8 +20,8 @@ def first_key(program):
 def least_table(program, key, aspect):
     """Return the least table with the key, of one of the aspects that follows tells of."""
     roles = roles_by_name(program)
-    late = late_places(roles) if aspect == "late" else {}
-    graphs = {key: graph_from(roles, key)}
+    late = late_costs(aspect, roles)
+    graphs = {key: graph_from(roles[key[0]], start_of(key))}
     table = {key: ()}
     parents = {key: ()}
     ahead = [key]
@@ -31,7 +31,7 @@ def least_table(program, key, aspect):
         born = born_along(graphs[each], masks)
         new = [child for child in born if child not in table]
         for child in new:
-            graphs[child] = graph_from(roles, child)
+            graphs[child] = graph_from(roles[child[0]], start_of(child))
             table[child] = ()
             parents[child] = ()
         for child in born:

@@ -28,7 +28,7 @@ def fewest_processes(program, way):
     """Return how many processes there are at least in a run that hangs so, or None."""
     need(is_program(program), "program")
     need(way in WAYS, "way")
-    numbers = least_numbers(program, first_key(program))[first_key(program)]
+    numbers = least_numbers(program, first_key(program), "fates")[first_key(program)]
     return _fewest(numbers, way)[1]
 
 
@@ -36,9 +36,9 @@ def hang_run(program, way):
     """Return a run with the fewest processes that hangs in this way, or None."""
     need(is_program(program), "program")
     need(way in WAYS, "way")
-    table = least_numbers(program, first_key(program))
+    table = least_numbers(program, first_key(program), "fates")
     code, number = _fewest(table[first_key(program)], way)
-    return None if number is None else run_to(program, code, table)
+    return None if number is None else run_to(program, "fates", code, table)
 
 
 def _fewest(numbers, way):

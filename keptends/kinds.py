@@ -9,6 +9,7 @@ HOLDS = ("none", "open", "marked")
 WAYS = ("own", "stays", "joins")
 HARMS = ("own", "stays", "joins", "deaf", "mute", "unheard", "kept")
 BIRTHS = ("copy", "start")
+SWITCHES = ("on", "off")
 WORDS = ("go", "copy", "start", "mark", "close", "read", "write", "wait", "stay", "end")
 LETTERS = "abcdefghijklmnopqrstuvwxyz"
 
@@ -44,7 +45,7 @@ def is_asides(thing):
     """Return whether it is a set of pairs of a word of birth and a name."""
     if not isinstance(thing, tuple):
         return False
-    return all([_is_aside(aside) for aside in thing]) and _ascends(thing)
+    return all([_is_aside(aside) for aside in thing]) and ascends(thing)
 
 
 def is_instruction(thing):
@@ -92,6 +93,11 @@ def is_words_of(thing, words):
     return all([thing.index(word) == k for k, word in enumerate(thing)])
 
 
+def ascends(things):
+    """Return whether each of the things is greater than the one before."""
+    return all([one < other for one, other in zip(things, things[1:])])
+
+
 def _is_tuple_of(thing, many):
     return isinstance(thing, tuple) and len(thing) == many
 
@@ -103,8 +109,4 @@ def _is_aside(thing):
 def _is_targets(thing):
     if not isinstance(thing, tuple) or len(thing) == 0:
         return False
-    return all([is_number(target) for target in thing]) and _ascends(thing)
-
-
-def _ascends(things):
-    return all([one < other for one, other in zip(things, things[1:])])
+    return all([is_number(target) for target in thing]) and ascends(thing)

@@ -15,17 +15,17 @@ def can_end(program, name, ends):
 
 def can_let_go(program, name, ends):
     """Return whether there can be a moment, behind early steps, at which none of the line holds w."""
-    return MOMENT in _codes_of(program, name, ends, "w")
+    return len(_codes_of(program, name, ends, "w")) > 0
 
 
 def can_be_unread(program, name, ends):
     """Return whether there can be a moment, behind early steps, at which none of the line holds r."""
-    return MOMENT in _codes_of(program, name, ends, "r")
+    return len(_codes_of(program, name, ends, "r")) > 0
 
 
 def can_end_late(program, name, ends):
     """Return whether all of the line can end, with each read possible once none of it holds w."""
-    return MOMENT in _codes_of(program, name, ends, "late")
+    return MOMENT in _codes_of(program, name, ends, "w")
 
 
 def _codes_of(program, name, ends, aspect):

@@ -4,8 +4,9 @@ A key is a pair (name, ends): a process of this role, born with these ends. A
 position is a triple (place, r, w): where a process is, and what it holds; GONE
 stands for one that has ended. A move is (word, number, child, behind): a step
 without its process, the key of the child that it bears or None, and the
-position behind it. Only early moves are told: no read of a process that holds
-r. A graph is a dict of the positions that could be come to: the moves from each.
+position behind it. Early moves are no read of a process that holds r; late
+ones can be that, too. A graph is a dict of the positions that early moves
+could come to: the early moves from each.
 """
 
 from keptends.fatecodes import ENDED_ONLY, joined
@@ -21,27 +22,27 @@ def start_of(key):
     return (0,) + key[1]
 
 
-def graph_from(roles, key):
-    """Return the graph of a process with this key, as if each wait could be passed."""
-    start = start_of(key)
+def graph_from(role, start):
+    """Return the graph of a process of the role from this position on, as if each wait could be passed."""
     graph = {}
     ahead = [start]
     while len(ahead) > 0:
         position = ahead.pop()
         if position not in graph:
-            graph[position] = _moves_at(roles[key[0]], position)
+            graph[position] = moves_at(role, position, False)
             ahead.extend([move[3] for move in graph[position]])
     return graph
 
 
-def masks_along(graph, start, table):
+def masks_along(graph, start, table, first=ENDED_ONLY):
     """Return a dict of the positions that paths come to: what their children have come to by then.
 
     The table has the codes for each key that a child can have, perhaps none
     yet. What the children of one path have come to together is one code; all
-    of them at one position are a mask. A wait is passed with the code 0 alone.
+    of them at one position are a mask, first being that of those that were
+    there at the start. A wait is passed with the code 0 alone.
     """
-    masks = {start: ENDED_ONLY}
+    masks = {start: first}
     ahead = [start]
     while len(ahead) > 0:
         position = ahead.pop()
@@ -69,17 +70,18 @@ def born_along(graph, masks):
     return list(born)
 
 
-def _moves_at(role, position):
-    place, r, w = position
+def moves_at(role, position, is_late):
+    """Return the tuple of the early moves, or the late ones, of a process of the role at the position."""
     if position == GONE:
         return ()
+    place, r, w = position
     _, places, asides = role
     moves = tuple([("aside", k, _child_of(aside, r, w), position) for k, aside in enumerate(asides)])
     instruction = places[place]
     word = instruction[0]
     if word == "end":
         return moves + ((word, -1, None, GONE),)
-    if word == "read" and r != "none":
+    if word == "read" and r != "none" and not is_late:
         return moves
     if word == "go":
         return moves + tuple([(word, target, None, (target, r, w)) for target in targets_of(instruction)])

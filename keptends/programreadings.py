@@ -32,17 +32,21 @@ def read_instruction(text, *, line=0):
 def read_program(text):
     """Return the pair of a begin and roles by form that the text writes."""
     need(isinstance(text, str), "text")
-    lines = text.split("\n")
-    rows = []
+    return program_in(text.split("\n"), 0)
+
+
+def program_in(lines, first):
+    """Return the pair that these lines write, the first of which has this index."""
+    rows = [("",)]
     for line, written in enumerate(lines):
         words = words_of(written)
-        before = rows[-1] if rows else ("",)
+        before = rows[-1]
         if before[0] == "aside" and words[0] == "aside":
-            _check_ascends(words, before[1:], line)
-        rows.append(_row_of(words, _words_behind(before[0]), line))
-    if rows[-1][0] in ("begin", "role"):
-        raise InvalidText(len(lines), 0)
-    return (rows[0][1:], _roles_of(rows[1:]))
+            _check_ascends(words, before[1:], first + line)
+        rows.append(_row_of(words, _words_behind(before[0]), first + line))
+    if rows[-1][0] in ("", "begin", "role"):
+        raise InvalidText(first + len(lines), 0)
+    return (rows[1][1:], _roles_of(rows[2:]))
 
 
 def _words_behind(word):
@@ -61,7 +65,7 @@ def _row_of(words, firsts, line):
     word = words[0]
     if word not in firsts:
         raise InvalidText(line, 0)
-    check_words(words, PARTS[word], line)
+    check_words(words, 1, PARTS[word], line)
     values = [_value_of(part, written) for part, written in zip(PARTS[word], words[1:])]
     return (word,) + tuple(values)
 

@@ -12,7 +12,7 @@ def instruction_text(instruction):
 
 def program_text(program):
     """Return the pair of a begin and a nonempty tuple of roles by form as lines."""
-    need(_is_writable(program), "program")
+    need(is_writable(program), "program")
     begin, roles = program
     lines = [_line_of(("begin",) + begin)]
     for role in roles:
@@ -20,7 +20,8 @@ def program_text(program):
     return "\n".join(lines)
 
 
-def _is_writable(thing):
+def is_writable(thing):
+    """Return whether any value is a pair of a begin and a nonempty tuple of roles by form."""
     if not isinstance(thing, tuple) or len(thing) != 2:
         return False
     begin, roles = thing

@@ -1,7 +1,7 @@
 """Lines of texts as words: which words can stand where."""
 
 from keptends.errors import InvalidText
-from keptends.kinds import BIRTHS, ENDS, WORDS, is_name
+from keptends.kinds import BIRTHS, ENDS, SWITCHES, WORDS, is_name
 
 DIGITS = "0123456789"
 MOST_DIGITS = 60
@@ -12,17 +12,17 @@ def words_of(line):
     return line.split(" ")
 
 
-def check_words(words, parts, line):
-    """Raise InvalidText unless behind the first word there stand just these parts."""
+def check_words(words, first, parts, line):
+    """Raise InvalidText unless from the word with the index first on there stand just these parts."""
     for k, part in enumerate(parts):
         # A missing word and one that cannot stand are told by the same field.
-        if k + 1 >= len(words) or not _can_stand(part, words[k + 1]):
-            raise InvalidText(line, k + 1)
-    if len(words) > len(parts) + 1:
-        raise InvalidText(line, len(parts) + 1)
+        if first + k >= len(words) or not _can_stand(part, words[first + k]):
+            raise InvalidText(line, first + k)
+    if len(words) > first + len(parts):
+        raise InvalidText(line, first + len(parts))
 
 
-def is_number_word(word):
+def _is_number_word(word):
     """Return whether the word writes a number: at most sixty digits, no leading zero."""
     if word == "" or len(word) > MOST_DIGITS or not all([digit in DIGITS for digit in word]):
         return False
@@ -35,7 +35,7 @@ def numbers_of(word):
 
 
 def _is_targets_word(word):
-    if not all([is_number_word(number) for number in word.split(",")]):
+    if not all([_is_number_word(number) for number in word.split(",")]):
         return False
     targets = numbers_of(word)
     return all([one < other for one, other in zip(targets, targets[1:])])
@@ -43,7 +43,7 @@ def _is_targets_word(word):
 
 def _can_stand(part, word):
     if part == "number":
-        return is_number_word(word)
+        return _is_number_word(word)
     if part == "targets":
         return _is_targets_word(word)
     if part == "name":
@@ -54,5 +54,9 @@ def _can_stand(part, word):
         return word in BIRTHS
     if part == "step":
         return word == "aside" or word in WORDS and word != "stay"
+    if part == "switch":
+        return word in SWITCHES
+    if part == "count":
+        return _is_number_word(word) and word != "0"
     # What remains is how process 0 holds an end at first.
     return word in ("open", "marked")

@@ -19,7 +19,7 @@ def few_paper(program, way):
     run = hang_run(program, way)
     if run is None:
         return None
-    table = least_numbers(program, first_key(program))
+    table = least_numbers(program, first_key(program), "fates")
     return ("few", run, tuple([_entry_of(key, table[key]) for key in ascending(list(table))]))
 
 

@@ -21,7 +21,7 @@ METHODS = {
     "startswith", "strip", "update", "upper", "values", "zfill", "bit_length"}
 SPECIAL = {
     "__init__", "__eq__", "__repr__", "__str__", "__len__", "__call__", "__iter__", "__le__", "__add__", "__sub__", "__mod__",
-    "__and__", "__or__", "__contains__", "__getitem__"}
+    "__and__", "__or__", "__contains__", "__getitem__", "__iadd__", "__enter__", "__exit__"}
 BARRED = {
     "register", "mro", "elements", "open", "input", "law", "version_info", "with_traceback", "add_note", "attrgetter",
     "breakpoint", "compile", "copyright", "delattr", "dir", "eval", "exec", "exit", "gc", "getattr", "globals", "hasattr",
@@ -29,6 +29,7 @@ BARRED = {
 BARRED_WORDS = re.compile(
     r"\b(type|typing|typing_extensions|enum|Enum|Generic|Protocol|ABC|ABCMeta|namedtuple|NamedTuple|abstractmethod|Meta)\b"
     r"|dataclass|overload|contextmanager|metaclass=|\(type\)")
+CHANGING = ("append", "extend", "pop", "insert", "update", "clear")
 STATEMENTS = (
     ast.Assign, ast.If, ast.While, ast.For, ast.Return, ast.Break, ast.Continue, ast.Pass, ast.Raise, ast.Assert, ast.Try,
     ast.Expr, ast.FunctionDef, ast.ClassDef, ast.ImportFrom)
@@ -50,6 +51,20 @@ def defined_in(tree):
     """The names that a file defines at module level."""
     names = [node.name for node in tree.body if isinstance(node, (ast.FunctionDef, ast.ClassDef))]
     return names + [node.targets[0].id for node in tree.body if isinstance(node, ast.Assign)]
+
+
+def names_alike(function):
+    """Pairs of names one of which is assigned the other, or a choice that has it, in a function."""
+    pairs = []
+    for node in ast.walk(function):
+        if isinstance(node, ast.Assign) and isinstance(node.targets[0], ast.Name):
+            values = [node.value]
+            if isinstance(node.value, ast.IfExp):
+                values = [node.value.body, node.value.orelse]
+            if isinstance(node.value, ast.BoolOp):
+                values = node.value.values
+            pairs.extend((node.targets[0].id, value.id) for value in values if isinstance(value, ast.Name))
+    return pairs
 
 
 class Language(unittest.TestCase):
@@ -155,7 +170,7 @@ class Language(unittest.TestCase):
                 if isinstance(node, ast.Name) and node.id in dir(builtins):
                     self.assertIn(node.id, BUILTINS, (name, node.lineno))
                 if isinstance(node, ast.Attribute):
-                    self.assertTrue(node.attr in METHODS | own | stored, (name, node.attr))
+                    self.assertTrue(node.attr in METHODS | own | stored | {"setter", "MOST"}, (name, node.attr))
                     self.assertNotIn(node.attr, BARRED)
 
     def test_sorted_min_and_max_are_not_used(self):
@@ -169,12 +184,25 @@ class Language(unittest.TestCase):
             self.assertIsNone(BARRED_WORDS.search(text), path)
 
     def test_errors_are_created_where_they_are_raised(self):
+        own = {"InvalidPaper", "NotUsable", "InvalidStep", "InvalidText", "InvalidEvent", "InvalidRow", "NothingToUndo", "Broken"}
         for name, _, nodes in trees():
             for node in nodes:
                 if isinstance(node, ast.Raise):
                     self.assertIsInstance(node.exc, ast.Call, name)
+                    # A class with [ ] but without an iteration says so by an error of Python's own.
+                    self.assertIn(node.exc.func.id, own | {"TypeError"}, name)
                 if isinstance(node, ast.ExceptHandler):
-                    self.assertIn(node.type.id, ("InvalidPaper", "NotUsable", "InvalidStep", "InvalidText"), name)
+                    self.assertIn(node.type.id, own, name)
+
+    def test_what_runs_at_the_end_only_assigns(self):
+        for name, _, nodes in trees():
+            for node in nodes:
+                rows = node.finalbody if isinstance(node, ast.Try) else []
+                if isinstance(node, ast.FunctionDef) and node.name == "__exit__":
+                    rows = node.body
+                for row in rows:
+                    self.assertIsInstance(row, ast.Assign, name)
+                    self.assertIsInstance(row.value, (ast.Name, ast.Attribute), name)
 
     def test_no_outer_list_is_changed(self):
         # Operators and properties change no list that they were passed, nor does what they call.
@@ -202,7 +230,9 @@ class Language(unittest.TestCase):
                         part.ctx, (ast.Store, ast.Del))]
                     for part in inner:
                         if isinstance(part, ast.Assign) and isinstance(part.targets[0], ast.Name) and part.targets[0].id in changed:
-                            self.assertIsInstance(part.value, (ast.List, ast.Dict, ast.ListComp), (name, part.lineno))
+                            is_copy = isinstance(part.value, ast.Call) and getattr(part.value.func, "id", "") == "list"
+                            self.assertTrue(is_copy or isinstance(part.value, (ast.List, ast.Dict, ast.ListComp)),
+                                            (name, part.lineno))
 
     def test_reversed_takes_what_is_plainly_a_list(self):
         for name, _, nodes in trees():
@@ -211,15 +241,24 @@ class Language(unittest.TestCase):
                     self.assertIn(getattr(getattr(node.args[0], "func", None), "id", ""), ("list", "tuple"), name)
 
     def test_loops_change_nothing_that_they_go_over(self):
+        # Neither by its name nor by one that it is given, or that is given to it, anywhere in the function.
         for name, _, nodes in trees():
             for node in nodes:
-                if isinstance(node, ast.For):
-                    over = {part.id for part in ast.walk(node.iter) if isinstance(part, ast.Name)}
-                    for part in [part for row in node.body for part in ast.walk(row)]:
-                        if isinstance(part, ast.Attribute) and part.attr in ("append", "extend", "pop", "insert", "update"):
-                            self.assertNotIn(part.value.id, over, (name, part.lineno))
-                        if isinstance(part, ast.Subscript) and isinstance(part.ctx, (ast.Store, ast.Del)):
-                            self.assertNotIn(part.value.id, over, (name, part.lineno))
+                if isinstance(node, ast.FunctionDef):
+                    alike = names_alike(node)
+                    for loop in [part for part in ast.walk(node) if isinstance(part, ast.For)]:
+                        over = {part.id for part in ast.walk(loop.iter) if isinstance(part, ast.Name)}
+                        over |= {other for pair in alike for other in pair if over & set(pair)}
+                        for part in [part for row in loop.body for part in ast.walk(row)]:
+                            if isinstance(part, ast.Attribute) and part.attr in CHANGING:
+                                self.assertNotIn(part.value.id, over, (name, part.lineno))
+                            if isinstance(part, ast.Subscript) and isinstance(part.ctx, (ast.Store, ast.Del)):
+                                self.assertNotIn(part.value.id, over, (name, part.lineno))
+
+    def test_names_alike_are_found(self):
+        source = "def f(ahead):\n    while ahead:\n        more = []\n        for one in ahead:\n            more.append(one)\n        ahead = more\n"
+        self.assertEqual(names_alike(ast.parse(source).body[0]), [("ahead", "more")])
+        self.assertEqual(names_alike(ast.parse(source.replace("= more", "= list(more)")).body[0]), [])
 
 
 if __name__ == "__main__":
