@@ -3,9 +3,9 @@
 from keptends.fatecodes import BOUND
 from keptends.fatetables import first_key
 from keptends.leastruns import all_plans, plan_along, woven
-from keptends.leastsums import least_numbers, legs_along
+from keptends.leastsums import least_numbers, legs_along, legs_of
 from keptends.lookups import roles_by_name
-from keptends.paths import graph_from, start_of
+from keptends.paths import graph_from
 from keptends.standings import links_along, without_waits
 
 
@@ -22,7 +22,7 @@ def chain_run(program, aspect, key, position, bound):
     for k, (parent, place, move) in enumerate(chain):
         plans[("chain", k)] = _bearing_plan(roles, aspect, table, parent, place, move, k)
     last = ("chain", len(chain))
-    legs = legs_along(graph_from(roles[key[0]], start_of(key)), start_of(key), table)
+    legs = legs_of(roles, key, table)
     ends = [state for state in legs if state[0] == position and (bound or state[1] != BOUND)]
     plans[last] = plan_along(legs, _cheapest(legs, ends))
     run, goals = woven(all_plans(program, aspect, table, plans, []), ("chain", 0))
@@ -41,14 +41,13 @@ def _chain_to(program, aspect, key):
 
 
 def _bearing_plan(roles, aspect, table, key, position, move, k):
-    graph = graph_from(roles[key[0]], start_of(key))
-    legs = legs_along(graph, start_of(key), table)
+    legs = legs_of(roles, key, table)
     before = plan_along(legs, _cheapest(legs, [state for state in legs if state[0] == position]))
     plan = before + [(move[0], move[1], ("chain", k + 1))]
     if aspect != "w":
         return plan
     # Now it lets go of w without a wait, since the child does not end.
-    freed = legs_along(without_waits(graph), move[3], table)
+    freed = legs_along(without_waits(graph_from(roles[key[0]], move[3])), move[3], table)
     return plan + plan_along(freed, _cheapest(freed, [state for state in freed if state[0][2] == "none"]))
 
 

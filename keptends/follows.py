@@ -45,7 +45,9 @@ def late_costs(aspect, roles):
     before does any. The aspects but "w" ask for none of this.
     """
     costs = {}
-    more = aspect == "w"
+    if aspect != "w":
+        return costs
+    more = True
     while more:
         more = False
         for name in roles:

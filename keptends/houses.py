@@ -199,9 +199,8 @@ class House:
 
     def __eq__(self, other):
         """Return whether any value is a House with an equal story."""
-        if not isinstance(other, House) or self._program != other._program:
-            return False
-        return self._careful == other._careful and self._events == other._events
+        return (isinstance(other, House) and self._program == other._program
+                and self._careful == other._careful and self._events == other._events)
 
     @classmethod
     def led(cls, program, careful, events):

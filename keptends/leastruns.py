@@ -8,9 +8,8 @@ list of its steps, triples (word, number, goal of the child that is born or None
 from keptends.fatecodes import codes_in
 from keptends.fatetables import first_key
 from keptends.follows import late_costs, mask_at
-from keptends.leastsums import cost_at, legs_along
+from keptends.leastsums import cost_at, legs_of
 from keptends.lookups import roles_by_name
-from keptends.paths import graph_from, start_of
 
 
 def run_to(program, aspect, code, table):
@@ -43,7 +42,7 @@ def all_plans(program, aspect, table, plans, goals):
         goal = ahead.pop()
         if goal not in found:
             key, code = goal
-            legs = legs_along(graph_from(roles[key[0]], start_of(key)), start_of(key), table)
+            legs = legs_of(roles, key, table)
             found[goal] = plan_along(legs, _state_before(aspect, roles[key[0]], legs, code, late))
             ahead.extend([other for other in _goals_in(found[goal]) if other not in found])
     return found

@@ -33,6 +33,11 @@ def least_numbers(program, key, aspect):
     return table
 
 
+def legs_of(roles, key, table):
+    """Return the legs of a process with this key, from its birth on."""
+    return legs_along(graph_from(roles[key[0]], start_of(key)), start_of(key), table)
+
+
 def legs_along(graph, start, table):
     """Return a dict of the states that paths come to: the least sum of the numbers of the children, and its last leg.
 

@@ -7,9 +7,8 @@ from keptends.fatecodes import code_of, has_way
 from keptends.fatetables import first_key
 from keptends.hangings import ways_at_end
 from keptends.kinds import WAYS
-from keptends.leastsums import legs_along, numbers_behind
+from keptends.leastsums import legs_of, numbers_behind
 from keptends.lookups import roles_by_name
-from keptends.paths import graph_from, start_of
 from keptends.programchecker import is_program
 from keptends.runchecker import is_run, lets_run
 from keptends.usable import need
@@ -61,8 +60,7 @@ def _check_run(program, way, thing):
 
 
 def _check_numbers(roles, table, key, k):
-    role = roles[key[0]]
-    least = numbers_behind("fates", role, legs_along(graph_from(role, start_of(key)), start_of(key), table), {})
+    least = numbers_behind("fates", roles[key[0]], legs_of(roles, key, table), {})
     given = table[key]
     # All that follows has a number: the list is closed here.
     if any([number > most for code, number in given for other, most in least if other == code]):

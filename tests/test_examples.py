@@ -117,8 +117,64 @@ raises InvalidPaper(word='way', at=-1)
 >>> [can_let_go(PROGRAM, 'main', BOTH), can_let_go(PROGRAM, 'main', ('open', 'marked')), can_be_unread(PROGRAM, 'kid', ('marked', 'open'))]
 [False, True, True]
 >>> from keptends.harmchecker import lets_harm
+>>> from keptends.harms import ends_told, harm_run, harms_of, is_harmless
+>>> from keptends.kinds import WAYS
+>>> from keptends.programchanges import put_in
+>>> SAFE = put_in(PROGRAM, 'kid', 0, ('mark', 'w'))
+>>> [harms_of(PROGRAM), harms_of(SAFE), harms_of(LATE), is_harmless(LATE, harms=WAYS)]
+[('kept', 'stays'), ('kept',), ('mute',), True]
+>>> [ends_told(PROGRAM), ends_told(SAFE), ends_told(LATE), harm_run(SAFE, 'stays')]
+[(), (('main', 2),), (('kid', 1),), None]
+>>> [lets_harm(PROGRAM, 'kept', RUN), lets_harm(LATE, 'mute', harm_run(LATE, 'mute'))]
+[2, 7]
 >>> lets_harm(PROGRAM, 'deaf', RUN)
 raises InvalidPaper(word='harm', at=-1)
+>>> from keptends.shuttings import greatest_shuts, least_shuts, shut
+>>> GIVEN = (('kid', 0, 'mark'), ('kid', 1, 'close'), ('main', 0, 'mark'))
+>>> [least_shuts(PROGRAM, GIVEN), greatest_shuts(PROGRAM, GIVEN)]
+[((('kid', 0, 'mark'),), (('main', 0, 'mark'),)), ((('kid', 1, 'close'),),)]
+>>> [shut(PROGRAM, GIVEN[:1]) == SAFE, least_shuts(SAFE, GIVEN), greatest_shuts(SAFE, GIVEN), harms_of(shut(PROGRAM, GIVEN[1:2]))]
+[True, ((),), (), ('kept', 'mute', 'stays')]
+>>> from keptends.fates import all_fates
+>>> from keptends.shutchecker import lets_shuts
+>>> from keptends.shutpapers import shut_paper
+>>> [lets_shuts(PROGRAM, GIVEN, (GIVEN[:1], all_fates(SAFE), (RUN,))), lets_shuts(PROGRAM, GIVEN, shut_paper(PROGRAM, GIVEN)), shut_paper(PROGRAM, GIVEN[1:2])]
+[1, 1, None]
+>>> lets_shuts(PROGRAM, GIVEN, (GIVEN[:1], all_fates(SAFE), (RUN[:2],)))
+raises InvalidPaper(word='way', at=0)
+>>> from keptends.shutclasses import Shuts
+>>> one = Shuts(PROGRAM, GIVEN[1:2])
+>>> [one.ways_now, one.spares(ways=('own',)), (one + GIVEN[0]).spares(), GIVEN[0] in one, str(one + GIVEN[0]), str(one - GIVEN[1])]
+[('stays',), True, True, False, 'mark kid 0, close kid 1', '-']
+>>> [[str(some) for some in Shuts(PROGRAM, GIVEN).least_within()], (one | Shuts(PROGRAM, GIVEN[:1])) == one + GIVEN[0], one <= Shuts(PROGRAM)]
+[['mark kid 0', 'mark main 0'], True, False]
+>>> from keptends.births import births_table, births_without
+>>> births_table(PROGRAM)[:3]
+[(('marked', 'marked'), 'as it is', ()), (('marked', 'marked'), 'copy', ('kept', 'stays')), (('marked', 'marked'), 'start', ('mute',))]
+>>> [births_without(PROGRAM), births_without(PROGRAM, harms=('stays', 'kept'))]
+[((('marked', 'marked'), 'as it is'),), ((('marked', 'marked'), 'as it is'), (('marked', 'marked'), 'start'))]
+>>> from keptends.likeness import have_same_harms, have_same_reads, have_same_ways, parting_harm
+>>> [have_same_harms(PROGRAM, SAFE), have_same_ways(SAFE, LATE), have_same_reads(PROGRAM, SAFE), parting_harm(SAFE, LATE)]
+[False, True, False, 'mute']
+>>> from keptends.houses import House
+>>> house = House(PROGRAM)
+>>> [house.do_all(*[('step', step) for step in RUN[:2]]), house.mark('m'), house.do_step(RUN[2]), house.ways_now, house.shown_now]
+[2, 2, 3, ('stays',), ((2, 'kept'), (3, 'stays'))]
+>>> [house[1], house.holders('w'), house.undo(), house.set_careful('on'), [house.barred(('step', step)) for step in RUN[2:4]]]
+[('kid', 0, 1, 'open', 'open', True), (1, 2), ('step', (0, 'close', -1)), 2, ['harm', None]]
+>>> one = House((('open', 'open'), (('a', (('go', (1, 2)), ('close', 'w', 2), ('read', 2)), ()),)))
+>>> [one.ways_left(), one.do_step((0, 'go', 1)), one.ways_left()]
+[('own',), 1, ()]
+>>> from keptends.housereadings import read_story
+>>> from keptends.housetexts import event_line, story_lines
+>>> [event_line(('step', (1, 'aside', 0))), story_lines((('house', (('open', 'marked'), (SERVER,)), 'off'), ('mark', 'a')))]
+['step 1 aside 0', ['house off 3', 'begin open marked', 'role server', 'stay', 'mark a']]
+>>> read_story(['house on 3', 'begin open open', 'role a'])
+raises InvalidText(line=3, field=0)
+>>> from keptends.desks import Desk
+>>> desk = Desk(PROGRAM)
+>>> [desk.say(row) for row in ('step 0 copy', 'bars step 0 copy', 'step 1 start', 'shown', 'undo', 'left', 'holders w')]
+['1', 'word', '2', '2@kept', 'step 1 start', 'stays', '0 1']
 """
 
 

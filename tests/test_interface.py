@@ -6,9 +6,12 @@ import inspect
 import pathlib
 import unittest
 
+from keptends.desks import Desk
 from keptends.fateclasses import Fates, Listed
+from keptends.houses import House
 from keptends.programclasses import Program, Reborn
 from keptends.runclasses import Quiet, Run
+from keptends.shutclasses import Shuts
 
 FOLDER = pathlib.Path(__file__).resolve().parent.parent / "keptends"
 FUNCTIONS = {
@@ -40,8 +43,24 @@ FUNCTIONS = {
     "lettings": ("can_end(program, name, ends)", "can_let_go(program, name, ends)", "can_be_unread(program, name, ends)",
                  "can_end_late(program, name, ends)"),
     "harmchecker": ("lets_harm(program, harm, thing)",),
+    "harms": ("harms_of(program)",
+              "is_harmless(program, *, harms=('own', 'stays', 'joins', 'deaf', 'mute', 'unheard', 'kept'))",
+              "ends_told(program)", "harm_run(program, harm)"),
+    "shuttings": ("shut(program, shuts)", "least_shuts(program, shuts, *, ways=('own', 'stays', 'joins'))",
+                  "greatest_shuts(program, shuts, *, ways=('own', 'stays', 'joins'))"),
+    "shutpapers": ("shut_paper(program, shuts, *, ways=('own', 'stays', 'joins'))",),
+    "shutchecker": ("lets_shuts(program, shuts, thing, *, ways=('own', 'stays', 'joins'))",),
+    "births": ("births_table(program)",
+               "births_without(program, *, harms=('own', 'stays', 'joins', 'deaf', 'mute', 'unheard', 'kept'))"),
+    "likeness": ("have_same_harms(program, other)", "have_same_ways(program, other)", "have_same_reads(program, other)",
+                 "parting_harm(program, other)"),
+    "houseevents": ("is_event(thing)",),
+    "houselogs": ("is_story(thing)", "replayed(story)"),
+    "housetexts": ("event_line(event)", "story_lines(story)"),
+    "housereadings": ("read_event(text)", "read_story(lines)"),
 }
-CLASSES = {"programclasses": ["Program", "Reborn"], "runclasses": ["Run", "Quiet"], "fateclasses": ["Fates", "Listed"]}
+CLASSES = {"programclasses": ["Program", "Reborn"], "runclasses": ["Run", "Quiet"], "fateclasses": ["Fates", "Listed"],
+           "shutclasses": ["Shuts"], "houses": ["Trial", "House"], "desks": ["Desk"]}
 METHODS = {
     Program: ("__init__(self, begin, roles)", "__getitem__(self, at)", "__call__(self, name)", "__contains__(self, x)",
               "__len__(self)", "__iter__(self)", "__str__(self)", "__eq__(self, other)", "__le__(self, other)",
@@ -56,11 +75,23 @@ METHODS = {
     Fates: ("__init__(self, program)", "__getitem__(self, at)", "__call__(self, name)", "__contains__(self, x)", "__len__(self)",
             "__iter__(self)", "__str__(self)", "__eq__(self, other)", "__le__(self, other)", "__and__(self, other)"),
     Listed: ("__init__(self, program, thing)",),
+    Shuts: ("__init__(self, program, shuts=())", "spares(self, *, ways=('own', 'stays', 'joins'))",
+            "least_within(self, *, ways=('own', 'stays', 'joins'))", "__add__(self, other)", "__sub__(self, other)",
+            "__contains__(self, x)", "__len__(self)", "__iter__(self)", "__or__(self, other)", "__and__(self, other)",
+            "__le__(self, other)", "__eq__(self, other)", "__str__(self)"),
+    House: ("__init__(self, program, *, careful='off')", "happen(self, event)", "do_step(self, step)", "set_careful(self, word)",
+            "mark(self, name)", "__iadd__(self, other)", "barred(self, event)", "tried(self, *events)", "trial(self)", "undo(self)",
+            "do_all(self, *events, keep=False)", "counts(self)", "ways_left(self)", "holders(self, end)", "born_since(self, name)",
+            "tally(self)", "table(self)", "story(self)", "__getitem__(self, at)", "__contains__(self, x)", "__len__(self)",
+            "__eq__(self, other)"),
+    Desk: ("__init__(self, program)", "say(self, row)", "counts(self)"),
 }
 PROPERTIES = {
     Program: ("begin_now", "roles_now", "form_now", "names_now"), Reborn: ("source_now", "birth_now"),
     Run: ("program_now", "run_now", "tree_now", "next_now", "rest_now", "waiting_now", "ways_now", "harms_now"), Quiet: (),
-    Fates: ("program_now", "table_now", "first_now", "ways_now"), Listed: ("table_now", "spare_now")}
+    Fates: ("program_now", "table_now", "first_now", "ways_now"), Listed: ("table_now", "spare_now"),
+    Shuts: ("program_now", "shuts_now", "shut_now", "ways_now", "harms_now"), Desk: (),
+    House: ("program_now", "run_now", "careful_now", "tree_now", "next_now", "waiting_now", "ways_now", "harms_now", "shown_now")}
 
 
 class Interface(unittest.TestCase):
@@ -91,6 +122,7 @@ class Interface(unittest.TestCase):
         self.assertEqual(str(inspect.signature(Program.read)), "(text)")
         self.assertEqual(str(inspect.signature(Run.read)), "(program, text)")
         self.assertIn("read", vars(Run))
+        self.assertEqual(vars(House)["MOST"], 40)
 
 
 if __name__ == "__main__":
