@@ -3,9 +3,9 @@
 from keptends.errors import NotUsable
 from keptends.hangs import can_hang, ways_of
 from keptends.harms import harms_of
-from keptends.kinds import WAYS, is_words_of
+from keptends.kinds import WAYS
 from keptends.orders import ascending
-from keptends.shuttings import is_shut, least_shuts, need_shuts, shut
+from keptends.shuttings import is_shut, least_shuts, shut
 from keptends.usable import need
 
 
@@ -13,10 +13,9 @@ class Shuts:
     """A set of shuts of a program, which never changes."""
 
     def __init__(self, program, shuts=()):
-        need_shuts(program, shuts, ())
+        self._shut = shut(program, shuts)
         self._program = program
         self._shuts = shuts
-        self._shut = shut(program, shuts)
 
     @property
     def program_now(self):
@@ -45,7 +44,6 @@ class Shuts:
 
     def spares(self, *, ways=WAYS):
         """Return whether the program can hang in none of the ways with the shuts put in."""
-        need(is_words_of(ways, WAYS), "ways")
         return not can_hang(self._shut, ways=ways)
 
     def least_within(self, *, ways=WAYS):

@@ -71,11 +71,11 @@ def need_shuts(program, shuts, ways):
 
 
 def _sets_of(shuts):
-    # The list of all sets of some of the shuts, those with fewer first.
+    # The list of all sets of some of the shuts, each behind all that lie within it.
     sets = [()]
     for one in shuts:
         sets = sets + [some + (one,) for some in sets]
-    return [some for many in range(len(shuts) + 1) for some in sets if len(some) == many]
+    return sets
 
 
 def _is_within(some, others):

@@ -74,7 +74,7 @@ UNHEARD = (BOTH, (
     ("b", (("go", (1, 2)), ("read", 2), ("end",)), ())))
 
 
-def wide(kids=5):
+def wide(kids=5, closing=True):
     """A first role that bears so many kids in turn, of four roles with eight places and three asides each."""
     names = ("b", "c", "d", "e")
     first = tuple(("copy", names[k % 4], k + 1) for k in range(kids)) + (("close", "w", kids + 1), ("wait", kids + 2), ("end",))
@@ -82,7 +82,7 @@ def wide(kids=5):
     roles = [("a", first, ())]
     for k, name in enumerate(names):
         after = names[(k + 1) % 4]
-        places = (("go", (1, 7)), ("copy", after, 2), ("close", "w", 3), ("wait", 4), ("read", 5), ("write", 6),
+        places = (("go", (1, 7)), ("copy", after, 2), ("close" if closing else "mark", "w", 3), ("wait", 4), ("read", 5), ("write", 6),
                   ("start", after, 7), ("end",))
         roles.append((name, places, asides))
     return (BOTH, tuple(roles))

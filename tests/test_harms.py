@@ -146,6 +146,47 @@ class Harms(Case):
                 ((("copy", "k", 1), ("go", (2, 3)), ("wait", 3), ("end",)), ("joins", "mute"), (("k", 1),))):
             self.assert_harms(alone(*places, others=(kid, none)), harms, reads)
 
+    def test_late_children_that_end_or_not_by_hand(self):
+        late = (("close", "w", 1), ("read", 2), ("copy", "c", 3), ("wait", 4), ("write", 5), ("end",))
+        for places, harms in (
+                # It can end by a choice, from its first place on, or not at all from there.
+                ((("go", (1, 2)), ("stay",), ("close", "r", 3), ("end",)), ("kept", "mute")),
+                ((("close", "r", 1), ("go", (2, 3)), ("stay",), ("end",)), ("mute",)),
+                ((("close", "r", 2), ("end",), ("stay",)), ()),
+                ((("close", "r", 1), ("stay",), ("end",)), ())):
+            self.assert_harms(alone(*late, others=(("c", places, ()),)), harms, (("a", 1),))
+        stays = ("c", (("close", "r", 1), ("stay",)), ())
+        ends = ("n", (("end",),), ())
+        # Where no wait comes, a child need not end; behind one it is born too late to be waited for.
+        for places in ((("close", "w", 1), ("read", 2), ("copy", "c", 3), ("write", 4), ("end",)),
+                       (("close", "w", 1), ("read", 2), ("copy", "n", 3), ("wait", 4), ("copy", "c", 5), ("write", 6), ("end",))):
+            self.assert_harms(alone(*places, others=(stays, ends)), ("mute",), (("a", 1),))
+        deaf = ("d", (("close", "r", 1), ("read", 2), ("wait", 3), ("end",)), ())
+        places = (("close", "w", 1), ("read", 2), ("copy", "c", 3), ("copy", "d", 4), ("end",))
+        self.assert_harms(alone(*places, others=(stays, deaf)), ("deaf",), (("a", 1),))
+
+    def test_late_children_of_asides_by_hand(self):
+        # Just what is born late, by an aside of one that was born so, reads without r.
+        places = (("close", "w", 1), ("read", 2), ("close", "r", 3), ("end",))
+        others = (("b", (("end",),), (("copy", "c"),)), ("c", (("close", "w", 1), ("read", 2), ("end",)), ()))
+        program = alone(*places, others=others, asides=(("copy", "b"),))
+        self.assert_harms(program, ("deaf",), (("a", 1), ("c", 1)))
+        self.assertEqual(len([step for step in harm_run(program, "deaf") if step[1] == "aside"]), 2)
+
+    def test_the_child_that_can_end_though_another_needs_less_by_hand(self):
+        # To pass its late wait the first has to bear the one with a child of its own.
+        places = (("go", (1, 2)), ("copy", "k", 3), ("copy", "c", 3), ("close", "w", 4), ("wait", 5), ("write", 6), ("end",))
+        others = (("k", (("close", "r", 1), ("close", "w", 2), ("stay",)), ()),
+                  ("c", (("copy", "d", 1), ("close", "w", 2), ("read", 3), ("end",)), ()),
+                  ("d", (("close", "w", 1), ("read", 2), ("end",)), ()))
+        self.assert_harms(alone(*places, others=others), ("mute",), (("c", 2), ("d", 1)))
+
+    def test_the_one_that_writes_unheard_by_hand(self):
+        # Another one is at a write, too, but without w.
+        places = (("copy", "w", 1), ("close", "w", 2), ("close", "r", 3), ("write", 4), ("end",))
+        writes = ("w", (("close", "r", 1), ("write", 2), ("end",)), ())
+        self.assert_harms(alone(*places, others=(writes,)), ("mute", "unheard"), ())
+
     def test_births_without_end(self):
         self.assert_same([harms_of(program) for program in (SELF, NEVER, CHOICE)], [(), (), ("own",)])
         # Each lets one more be born, and the last one, or all, close w and read.
@@ -265,12 +306,21 @@ class Harms(Case):
             is_harmless(PROGRAM, ())
 
     def test_bounds(self):
-        for kids in range(6):
-            program = wide(kids)
-            harms = harms_of(program)
-            self.assertEqual("mute" in harms, kids > 0)
-            for harm in HARMS:
-                self.assert_run(program, harm, harm in harms)
+        rng = random.Random(469)
+        for closing in (True, False):
+            for kids in range(6):
+                program = wide(kids, closing)
+                harms, reads = harms_of(program), ends_told(program)
+                self.assertEqual(("mute" if closing else "own") in harms, kids > 0)
+                self.assert_same(tuple(harm for harm in harms if harm not in WAYS), told_for_all(program)[0])
+                for harm in HARMS:
+                    self.assert_run(program, harm, harm in harms)
+                run = random_run(rng, program, 60)
+                self.assertLessEqual(set(harms_shown(program, run)), set(harms))
+                world = World(program)
+                for step in run:
+                    self.assertLessEqual(step_ahead(world), set(reads))
+                    world.do(step)
 
 
 class Consequences(Case):

@@ -49,9 +49,8 @@ class Likeness(Case):
         parting = [harm for harm in HARMS if (harm in harms_of(one)) is not (harm in harms_of(other))]
         wanted = (harms_of(one) == harms_of(other), ways_of(one) == ways_of(other), ends_told(one) == ends_told(other),
                   parting[0] if parting else None)
-        for program, another in ((one, other), (other, one)):
-            self.assert_same(tuple(function(program, another) for function in FUNCTIONS), wanted, (program, another))
-            self.assert_same(tuple(function(other=another, program=program) for function in FUNCTIONS), wanted)
+        self.assert_same(tuple(function(one, other) for function in FUNCTIONS), wanted, (one, other))
+        self.assert_same(tuple(function(other=one, program=other) for function in FUNCTIONS), wanted, (other, one))
         self.assertEqual(repr((one, other)), before)
         return wanted
 

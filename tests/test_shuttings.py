@@ -13,6 +13,7 @@ from keptends.programparts import births_in, names_in
 from keptends.shuttings import greatest_shuts, least_shuts, shut
 from tests.checks import Case
 from tests.fatesamples import BOTH, SAFE
+from tests.harmsamples import wide
 from tests.runsamples import NO_PROGRAMS
 from tests.samples import PROGRAM
 from tests.shutoracle import least_and_greatest, put_together, sets_of, ways_by
@@ -122,6 +123,12 @@ class LeastAndGreatest(Case):
             shuts = tuple(sorted(rng.sample(all_shuts(program), min(6, len(all_shuts(program))))))
             for ways in rng.sample(ALL_WAYS, 3) + [(), WAYS]:
                 self.assert_sets(program, shuts, ways)
+
+    def test_five_roles_of_eight_places(self):
+        for closing in (True, False):
+            program = wide(5, closing)
+            shuts = (("a", 0, "mark"), ("b", 0, "close"), ("b", 3, "mark"), ("c", 1, "close"), ("d", 1, "mark"), ("e", 4, "close"))
+            self.assert_sets(program, shuts, WAYS)
 
     def test_in_any_order_none_and_all(self):
         for program, shuts in programs_with_shuts(493, 3):
